@@ -1,0 +1,47 @@
+// Package engine: the ways to keep routes.
+package engine
+
+import (
+	"iter"
+
+	"fibshift/api"
+	"fibshift/prefix"
+)
+
+// Engine keeps routes, at most one for each prefix. What is handed to it are prefixes, routes and addresses:
+// it does not ask whether they are.
+type Engine interface {
+	// Lay lays a route, in place of one of its prefix; it answers that one's Next, or 0 if there was none.
+	Lay(r api.Route) int
+	// Take takes the route of a prefix away; it answers its Next, or 0 if there was none.
+	Take(p api.Prefix) int
+	// Best finds the route of an address, and whether it has one.
+	Best(addr int) (api.Route, bool)
+	// From goes in their order through the routes whose prefix is p, or ordered behind it.
+	From(p api.Prefix) iter.Seq[api.Route]
+	// Cells counts the cells that the routes need.
+	Cells() int
+}
+
+// Next tells the Next of the route of a prefix, or 0 if there is none.
+func Next(e Engine, p api.Prefix) int {
+	for r := range e.From(p) {
+		if prefix.Of(r) == p {
+			return r.Next
+		}
+		break
+	}
+	return 0
+}
+
+// Set lays the route of a prefix, or takes it away if next is 0; it answers the Next that was there, or 0.
+func Set(e Engine, p api.Prefix, next int) int {
+	if next == 0 {
+		return e.Take(p)
+	}
+	return e.Lay(route(p, next))
+}
+
+func route(p api.Prefix, next int) api.Route {
+	return api.Route{Addr: p.Addr, Len: p.Len, Next: next}
+}
