@@ -17,10 +17,37 @@ type Engine interface {
 	Take(p api.Prefix) int
 	// Best finds the route of an address, and whether it has one.
 	Best(addr int) (api.Route, bool)
-	// From goes in their order through the routes whose prefix is p, or ordered behind it.
+	// From goes in their order through the routes whose prefix is p, or ordered behind it. The engine may not be
+	// changed meanwhile.
 	From(p api.Prefix) iter.Seq[api.Route]
 	// Cells counts the cells that the routes need.
 	Cells() int
+}
+
+// New makes an engine of that kind, without routes; it is nil if there is no such kind.
+func New(kind int) Engine {
+	switch kind {
+	case api.List:
+		return NewList()
+	case api.Trie:
+		return NewTrie()
+	case api.Ranges:
+		return NewRanges()
+	}
+	return nil
+}
+
+// Kind tells which of the kinds an engine is, or 0 if it is none of them.
+func Kind(e Engine) int {
+	switch e.(type) {
+	case *List:
+		return api.List
+	case *Trie:
+		return api.Trie
+	case *Ranges:
+		return api.Ranges
+	}
+	return 0
 }
 
 // Next tells the Next of the route of a prefix, or 0 if there is none.

@@ -8,7 +8,10 @@ import (
 )
 
 func TestP1NoNumberMakesACallPanic(t *testing.T) {
-	x := table(t, 3, rt(0, 0, 1), rt(255, 8, 2))
+	inEach(t, func(t *testing.T, kind int) { callWithOddNumbers(table(t, kind, 30, rt(0, 0, 1), rt(255, 8, 2))) })
+}
+
+func callWithOddNumbers(x *fibshift.Table) {
 	for _, a := range odd() {
 		x.Lookup(a)
 		x.SetBudget(a)
@@ -29,19 +32,25 @@ func TestP1NoNumberMakesACallPanic(t *testing.T) {
 }
 
 func TestP1NoListMakesACallPanic(t *testing.T) {
-	x := table(t, 3)
-	wantApply(t, x, 0, api.OK)
-	for _, n := range []int{0, 1, 16} {
-		x.Apply(make([]api.Change, n))
-	}
-	for _, n := range []int{17, 100000} {
-		wantApply(t, x, 0, api.ErrMany, make([]api.Change, n)...)
-	}
+	inEach(t, func(t *testing.T, kind int) {
+		x := table(t, kind, 3)
+		wantApply(t, x, 0, api.OK)
+		for _, n := range []int{0, 1, 16} {
+			x.Apply(make([]api.Change, n))
+		}
+		for _, n := range []int{17, 100000} {
+			wantApply(t, x, 0, api.ErrMany, make([]api.Change, n)...)
+		}
+	})
 }
 
 func TestP1TheFirstErrorThatAppliesIsTold(t *testing.T) {
 	// The budget is full, so that each new route is ErrRoom too.
-	x := table(t, 1, rt(0, 0, 1))
+	inEach(t, func(t *testing.T, kind int) { makeSeveralErrorsAtOnce(t, full(t, kind, rt(0, 0, 1))) })
+}
+
+func makeSeveralErrorsAtOnce(t *testing.T, x *fibshift.Table) {
+	was := lookOf(t, x)
 	for _, next := range []int{-1, 0, 256, 5} {
 		wantErr(t, "Add of no prefix", x.Add(px(1, 7), next), api.ErrPrefix)
 	}
@@ -65,12 +74,20 @@ func TestP1TheFirstErrorThatAppliesIsTold(t *testing.T) {
 	if l, e := x.Page(px(1, 7), -1); e != api.ErrPrefix || len(l) != 0 {
 		t.Errorf("Page of no prefix and no number = %v, %d", l, e)
 	}
-	wantRoutes(t, x, rt(0, 0, 1))
+	wantLook(t, x, was)
 }
 
 func TestP1WithAnErrorTheResultsAreZeroAndNothingIsChanged(t *testing.T) {
-	was := []api.Route{rt(0, 0, 1), rt(128, 1, 2)}
-	x := table(t, 2, was...)
+	inEach(t, func(t *testing.T, kind int) {
+		makeEachError(t, full(t, kind, rt(0, 0, 1), rt(128, 1, 2)))
+		if r, e := table(t, kind, 2).Lookup(0); r != (api.Route{}) || e != api.ErrNone {
+			t.Errorf("Lookup without routes = %+v, %d", r, e)
+		}
+	})
+}
+
+func makeEachError(t *testing.T, x *fibshift.Table) {
+	was := lookOf(t, x)
 	for _, p := range []api.Prefix{px(1, 7), px(64, 2)} {
 		if n, e := x.Get(p); n != 0 || e == api.OK {
 			t.Errorf("Get(%+v) = %d, %d", p, n, e)
@@ -91,11 +108,6 @@ func TestP1WithAnErrorTheResultsAreZeroAndNothingIsChanged(t *testing.T) {
 	wantErr(t, "Add", x.Add(px(0, 0), 256), api.ErrNext)
 	wantErr(t, "Delete", x.Delete(px(0, 1)), api.ErrNone)
 	wantErr(t, "SetBudget", x.SetBudget(0), api.ErrArg)
-	wantRoutes(t, x, was...)
-	wantCells(t, x, 2, 2)
-
-	empty := table(t, 2)
-	if r, e := empty.Lookup(0); r != (api.Route{}) || e != api.ErrNone {
-		t.Errorf("Lookup without routes = %+v, %d", r, e)
-	}
+	wantLook(t, x, was)
+	wantRoutes(t, x, rt(0, 0, 1), rt(128, 1, 2))
 }

@@ -18,8 +18,7 @@ func New(c api.Config) (*Table, api.Errno) {
 	if !isConfig(c) {
 		return nil, api.ErrConfig
 	}
-	// Trie and Ranges are not built yet: until they are, a List stands in for them.
-	return &Table{routes: engine.NewList(), budget: c.Budget}, api.OK
+	return &Table{routes: engine.New(c.Engine), budget: c.Budget}, api.OK
 }
 
 // Add lays a route (P5).
@@ -141,7 +140,7 @@ func (t *Table) Step() int { return 0 }
 func (t *Table) Abort() api.Errno { return api.OK }
 
 // State tells how it stands (P14).
-func (t *Table) State() api.State { return api.State{} }
+func (t *Table) State() api.State { return api.State{Engine: engine.Kind(t.routes)} }
 
 // What Advise holds the routes against.
 const (

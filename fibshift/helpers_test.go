@@ -2,6 +2,7 @@ package fibshift_test
 
 import (
 	"math"
+	"reflect"
 	"slices"
 	"testing"
 
@@ -24,17 +25,59 @@ func take(addr, length int) api.Change { return api.Change{Addr: addr, Len: leng
 
 func rt(addr, length, next int) api.Route { return api.Route{Addr: addr, Len: length, Next: next} }
 
-// table makes a List with a budget, and with these routes.
-func table(t *testing.T, budget int, routes ...api.Route) *fibshift.Table {
+func prefixOf(r api.Route) api.Prefix { return px(r.Addr, r.Len) }
+
+// inEach tests with each of the engines.
+func inEach(t *testing.T, test func(t *testing.T, kind int)) {
+	for _, kind := range []int{api.List, api.Trie, api.Ranges} {
+		t.Run([]string{"", "List", "Trie", "Ranges"}[kind], func(t *testing.T) { test(t, kind) })
+	}
+}
+
+// table makes a table with an engine, a budget, and these routes.
+func table(t *testing.T, kind, budget int, routes ...api.Route) *fibshift.Table {
 	t.Helper()
-	x, e := fibshift.New(api.Config{Engine: api.List, Budget: budget, Chunk: 2, Log: 4})
+	x, e := fibshift.New(api.Config{Engine: kind, Budget: budget, Chunk: 2, Log: 4})
 	if x == nil || e != api.OK {
 		t.Fatalf("New = %v, %d", x, e)
 	}
 	for _, r := range routes {
-		wantErr(t, "Add", x.Add(px(r.Addr, r.Len), r.Next), api.OK)
+		wantErr(t, "Add", x.Add(prefixOf(r), r.Next), api.OK)
 	}
 	return x
+}
+
+// full makes a table whose routes need all cells of its budget.
+func full(t *testing.T, kind int, routes ...api.Route) *fibshift.Table {
+	t.Helper()
+	x := table(t, kind, api.MaxBudget, routes...)
+	wantErr(t, "SetBudget", x.SetBudget(need(kind, routes...)), api.OK)
+	return x
+}
+
+// look is all that a table tells of itself.
+type look struct {
+	routes []api.Route
+	best   [256]api.Route
+	cells  api.Cells
+	state  api.State
+	advice int
+}
+
+func lookOf(t *testing.T, x *fibshift.Table) look {
+	t.Helper()
+	l := look{routes: routesOf(t, x), cells: x.Cells(), state: x.State(), advice: x.Advise()}
+	for addr := range l.best {
+		l.best[addr], _ = x.Lookup(addr)
+	}
+	return l
+}
+
+func wantLook(t *testing.T, x *fibshift.Table, want look) {
+	t.Helper()
+	if got := lookOf(t, x); !reflect.DeepEqual(got, want) {
+		t.Errorf("the table is %+v, want %+v", got, want)
+	}
 }
 
 // routesOf pages through all routes of a table.
@@ -42,22 +85,27 @@ func routesOf(t *testing.T, x *fibshift.Table) []api.Route {
 	t.Helper()
 	var all []api.Route
 	from := px(0, 0)
-	for {
+	// There are fewer pages than prefixes; one that goes round and round is wrong.
+	for range 511 {
 		page, e := x.Page(from, api.MaxPage)
 		if e != api.OK {
 			t.Fatalf("Page(%+v) = %d", from, e)
 		}
 		// A page begins with the last route of the one ahead of it.
 		if len(all) > 0 {
+			if len(page) == 0 || page[0] != all[len(all)-1] {
+				t.Fatalf("Page(%+v) = %+v, without the route of that prefix", from, page)
+			}
 			page = page[1:]
 		}
 		if len(page) == 0 {
 			return all
 		}
 		all = append(all, page...)
-		last := all[len(all)-1]
-		from = px(last.Addr, last.Len)
+		from = prefixOf(all[len(all)-1])
 	}
+	t.Fatalf("the pages do not end")
+	return nil
 }
 
 func wantErr(t *testing.T, what string, got, want api.Errno) {
@@ -92,5 +140,12 @@ func wantPage(t *testing.T, x *fibshift.Table, from api.Prefix, n int, want ...a
 	t.Helper()
 	if got, e := x.Page(from, n); e != api.OK || !slices.Equal(got, want) {
 		t.Errorf("Page(%+v, %d) = %+v, %d, want %+v", from, n, got, e, want)
+	}
+}
+
+func wantBest(t *testing.T, x *fibshift.Table, addr int, want api.Route, e api.Errno) {
+	t.Helper()
+	if gotR, gotE := x.Lookup(addr); gotR != want || gotE != e {
+		t.Errorf("Lookup(%d) = %+v, %d, want %+v, %d", addr, gotR, gotE, want, e)
 	}
 }

@@ -5,34 +5,40 @@ import (
 	"testing"
 
 	"fibshift/api"
+	"fibshift/fibshift"
 )
 
 func TestP2ATableHangsOnWhatWasDoneWithItAlone(t *testing.T) {
-	x, y := table(t, 3, rt(0, 0, 1)), table(t, 5)
-	wantErr(t, "Add", y.Add(px(0, 0), 2), api.OK)
-	wantErr(t, "Add", y.Add(px(1, 8), 3), api.OK)
-	wantErr(t, "SetBudget", y.SetBudget(7), api.OK)
-	wantRoutes(t, x, rt(0, 0, 1))
-	wantCells(t, x, 1, 3)
-	wantRoutes(t, y, rt(0, 0, 2), rt(1, 8, 3))
-	wantCells(t, y, 2, 7)
+	inEach(t, func(t *testing.T, kind int) {
+		x, y := table(t, kind, 3, rt(0, 0, 1)), table(t, kind, 15)
+		was := lookOf(t, x)
+		wantErr(t, "Add", y.Add(px(0, 0), 2), api.OK)
+		wantErr(t, "Add", y.Add(px(1, 8), 3), api.OK)
+		wantErr(t, "SetBudget", y.SetBudget(7), api.OK)
+		wantRoutes(t, x, rt(0, 0, 1))
+		wantLook(t, x, was)
+		wantRoutes(t, y, rt(0, 0, 2), rt(1, 8, 3))
+		wantCells(t, y, need(kind, rt(0, 0, 2), rt(1, 8, 3)), 7)
+	})
 }
 
 func TestP2AskingChangesNothing(t *testing.T) {
-	x := table(t, 3, rt(0, 0, 1), rt(128, 1, 2))
-	for range 3 {
-		if n, e := x.Get(px(128, 1)); n != 2 || e != api.OK {
-			t.Errorf("Get = %d, %d", n, e)
+	inEach(t, func(t *testing.T, kind int) {
+		x := table(t, kind, 5, rt(0, 0, 1), rt(128, 1, 2))
+		for range 3 {
+			if n, e := x.Get(px(128, 1)); n != 2 || e != api.OK {
+				t.Errorf("Get = %d, %d", n, e)
+			}
+			if r, e := x.Lookup(200); r != rt(128, 1, 2) || e != api.OK {
+				t.Errorf("Lookup = %+v, %d", r, e)
+			}
+			wantPage(t, x, px(0, 0), 1, rt(0, 0, 1))
+			wantCells(t, x, [...]int{0, 2, 2, 4}[kind], 5)
+			if n := x.Advise(); n != api.List {
+				t.Errorf("Advise = %d", n)
+			}
 		}
-		if r, e := x.Lookup(200); r != rt(128, 1, 2) || e != api.OK {
-			t.Errorf("Lookup = %+v, %d", r, e)
-		}
-		wantPage(t, x, px(0, 0), 1, rt(0, 0, 1))
-		wantCells(t, x, 2, 3)
-		if n := x.Advise(); n != api.List {
-			t.Errorf("Advise = %d", n)
-		}
-	}
+	})
 }
 
 func TestP2AListHandedInIsNeitherWrittenIntoNorKept(t *testing.T) {
@@ -44,15 +50,15 @@ func TestP2AListHandedInIsNeitherWrittenIntoNorKept(t *testing.T) {
 	}{
 		{"made", []api.Change{lay(128, 1, 5), lay(128, 1, 6), lay(0, 0, 7), take(0, 0)}, api.OK, []api.Route{rt(128, 1, 6)}},
 		{"taken back", []api.Change{lay(128, 1, 5), lay(0, 0, 7), take(0, 1)}, api.ErrNone, nil},
-		{"no room", []api.Change{lay(0, 1, 5), lay(128, 1, 6), lay(0, 0, 7)}, api.ErrRoom, nil},
+		{"no room", []api.Change{lay(1, 8, 5), lay(2, 8, 6), lay(3, 8, 7), lay(0, 0, 7)}, api.ErrRoom, nil},
 		{"many", make([]api.Change, api.MaxBatch+1), api.ErrMany, nil},
 	} {
-		t.Run(c.name, func(t *testing.T) {
-			x := table(t, 2)
+		inEach(t, func(t *testing.T, kind int) {
+			x := table(t, kind, 3)
 			room := append(slices.Clone(c.list), lay(-7, -8, -9), lay(-4, -5, -6))
 			was := slices.Clone(room)
 			_, e := x.Apply(room[:len(c.list)])
-			wantErr(t, "Apply", e, c.e)
+			wantErr(t, "Apply, "+c.name, e, c.e)
 			if !slices.Equal(room, was) {
 				t.Errorf("the list and what stands behind it: %+v, was %+v", room, was)
 			}
@@ -66,7 +72,10 @@ func TestP2AListHandedInIsNeitherWrittenIntoNorKept(t *testing.T) {
 
 func TestP2AListThatComesOutIsTheCallers(t *testing.T) {
 	in := []api.Route{rt(0, 0, 1), rt(0, 8, 2), rt(128, 1, 3)}
-	x := table(t, 9, in...)
+	inEach(t, func(t *testing.T, kind int) { scrawlIntoPages(t, table(t, kind, 20, in...), in) })
+}
+
+func scrawlIntoPages(t *testing.T, x *fibshift.Table, in []api.Route) {
 	scrawl := func(l []api.Route, mark int) {
 		l = l[:cap(l)]
 		for i := range l {
@@ -99,12 +108,14 @@ func TestP2AListThatComesOutIsTheCallers(t *testing.T) {
 }
 
 func TestP2APageIsNotChangedByLaterCalls(t *testing.T) {
-	x := table(t, 9, rt(0, 0, 1), rt(128, 1, 3))
-	page, _ := x.Page(px(0, 0), 2)
-	x.Add(px(0, 0), 9)
-	x.Delete(px(128, 1))
-	x.Add(px(64, 2), 4)
-	if !slices.Equal(page, []api.Route{rt(0, 0, 1), rt(128, 1, 3)}) {
-		t.Errorf("the page is now %+v", page)
-	}
+	inEach(t, func(t *testing.T, kind int) {
+		x := table(t, kind, 9, rt(0, 0, 1), rt(128, 1, 3))
+		page, _ := x.Page(px(0, 0), 2)
+		wantErr(t, "Add", x.Add(px(0, 0), 9), api.OK)
+		wantErr(t, "Delete", x.Delete(px(128, 1)), api.OK)
+		wantErr(t, "Add", x.Add(px(64, 2), 4), api.OK)
+		if !slices.Equal(page, []api.Route{rt(0, 0, 1), rt(128, 1, 3)}) {
+			t.Errorf("the page is now %+v", page)
+		}
+	})
 }

@@ -12,8 +12,56 @@ import (
 
 // model answers as the document's words do, without an engine.
 type model struct {
+	kind   int
 	routes map[api.Prefix]int
 	budget int
+}
+
+func (m *model) cells() int { return need(m.kind, m.page(px(0, 0), 511)...) }
+
+// need tells how many cells routes need in an engine.
+func need(kind int, routes ...api.Route) int {
+	switch kind {
+	case api.List:
+		return len(routes)
+	case api.Trie:
+		return trieCells(routes)
+	}
+	return len(routes) + stretches(routes)
+}
+
+// trieCells asks of each prefix whether it is a cell: of Len 0, or with a route within it.
+func trieCells(routes []api.Route) int {
+	sum := 1
+	for length := 1; length <= 8; length++ {
+		for addr := 0; addr < 256; addr += 256 >> length {
+			if slices.ContainsFunc(routes, func(r api.Route) bool {
+				return r.Len >= length && addr <= r.Addr && r.Addr < addr+256>>length
+			}) {
+				sum++
+			}
+		}
+	}
+	return sum
+}
+
+// stretches asks of each address whether its route is another than that of the one ahead.
+func stretches(routes []api.Route) int {
+	m := &model{routes: map[api.Prefix]int{}}
+	for _, r := range routes {
+		m.routes[prefixOf(r)] = r.Next
+	}
+	sum := 0
+	last := api.Route{Len: -1}
+	for addr := range 256 {
+		// With no route it is all zeros, which no route is: its Next is not 0.
+		r, _ := m.lookup(addr)
+		if r != last {
+			sum++
+		}
+		last = r
+	}
+	return sum
 }
 
 func (m *model) apply(l []api.Change) (int, api.Errno) {
@@ -37,10 +85,13 @@ func (m *model) apply(l []api.Change) (int, api.Errno) {
 			would[p] = c.Next
 		}
 	}
-	if len(would) > m.budget && len(would) > len(m.routes) {
+	now := m.cells()
+	was := m.routes
+	m.routes = would
+	if n := m.cells(); n > m.budget && n > now {
+		m.routes = was
 		return len(l), api.ErrRoom
 	}
-	m.routes = would
 	return len(l), api.OK
 }
 
@@ -108,6 +159,14 @@ func (d *dice) prefix() api.Prefix {
 	return px(d.below(1<<length)<<(8-length), length)
 }
 
+// budget is such that there is room now and then: one route may need nine cells in a Trie.
+func (d *dice) budget(m *model) int {
+	if m.kind == api.List {
+		return 1 + d.below(60)
+	}
+	return 1 + d.below(200)
+}
+
 // change is now and then one that can't be.
 func (d *dice) change() api.Change {
 	p := d.prefix()
@@ -136,18 +195,21 @@ func (d *dice) batch(m *model) []api.Change {
 }
 
 func TestRoutesAnswerAsTheModelDoes(t *testing.T) {
-	for seed := range 20 {
-		d := dice(seed)
-		m := &model{routes: map[api.Prefix]int{}, budget: 1 + d.below(60)}
-		x := table(t, m.budget)
-		for range 150 {
-			step(t, x, m, &d)
-			compare(t, x, m, &d)
-			if t.Failed() {
-				t.Fatalf("seed %d", seed)
+	inEach(t, func(t *testing.T, kind int) {
+		for seed := range 20 {
+			d := dice(seed)
+			m := &model{kind: kind, routes: map[api.Prefix]int{}}
+			m.budget = d.budget(m)
+			x := table(t, kind, m.budget)
+			for range 150 {
+				step(t, x, m, &d)
+				compare(t, x, m, &d)
+				if t.Failed() {
+					t.Fatalf("seed %d", seed)
+				}
 			}
 		}
-	}
+	})
 }
 
 func step(t *testing.T, x *fibshift.Table, m *model, d *dice) {
@@ -162,7 +224,7 @@ func step(t *testing.T, x *fibshift.Table, m *model, d *dice) {
 			wantErr(t, "Add", x.Add(px(c.Addr, c.Len), c.Next), want)
 		}
 	case 1:
-		m.budget = 1 + d.below(60)
+		m.budget = d.budget(m)
 		wantErr(t, "SetBudget", x.SetBudget(m.budget), api.OK)
 	default:
 		l := d.batch(m)
@@ -174,7 +236,7 @@ func step(t *testing.T, x *fibshift.Table, m *model, d *dice) {
 func compare(t *testing.T, x *fibshift.Table, m *model, d *dice) {
 	t.Helper()
 	wantRoutes(t, x, m.page(px(0, 0), 511)...)
-	wantCells(t, x, len(m.routes), m.budget)
+	wantCells(t, x, m.cells(), m.budget)
 	from, n := d.prefix(), d.below(33)
 	wantPage(t, x, from, n, m.page(from, n)...)
 	if got, want := x.Advise(), m.advise(); got != want {

@@ -35,6 +35,19 @@ func (s *Store[K, V]) Get(key K) (V, bool) {
 	return s.entries[at].value, true
 }
 
+// Last tells the value of the last key that is key, or ordered ahead of it, and whether there is one.
+func (s *Store[K, V]) Last(key K) (V, bool) {
+	at, found := s.find(key)
+	if !found {
+		at--
+	}
+	if at < 0 {
+		var none V
+		return none, false
+	}
+	return s.entries[at].value, true
+}
+
 // Put gives a key a value; it answers the one that the key had, and whether there was one.
 func (s *Store[K, V]) Put(key K, value V) (V, bool) {
 	at, found := s.find(key)

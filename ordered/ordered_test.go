@@ -60,6 +60,21 @@ func TestPutGetRemove(t *testing.T) {
 	}
 }
 
+func TestLastIsTheKeysOrTheOneAheadOfIt(t *testing.T) {
+	s := filled(7, 5, 3)
+	for _, c := range []struct {
+		key  int
+		want string
+	}{{2, ""}, {3, "xxx"}, {4, "xxx"}, {5, "xxxxx"}, {6, "xxxxx"}, {7, "xxxxxxx"}, {99, "xxxxxxx"}} {
+		if v, found := s.Last(c.key); v != c.want || found != (c.want != "") {
+			t.Errorf("Last(%d) = %q, %v, want %q", c.key, v, found, c.want)
+		}
+	}
+	if v, found := filled().Last(1); v != "" || found {
+		t.Errorf("Last of an empty store = %q, %v", v, found)
+	}
+}
+
 func TestFromBeginsAtTheKeyOrBehindIt(t *testing.T) {
 	s := filled(7, 5, 3)
 	for _, c := range []struct {

@@ -29,6 +29,17 @@ func Covering(addr, length int) api.Prefix {
 	return api.Prefix{Addr: addr - addr%size(length), Len: length}
 }
 
+// Behind tells the first number that p no longer covers: an address, or one behind them all.
+func Behind(p api.Prefix) int { return p.Addr + size(p.Len) }
+
+// Side tells in which half, 0 or 1, of a prefix of that length, below api.Bits, an address of it is.
+func Side(addr, length int) int { return addr / size(length+1) % 2 }
+
+// Half tells the half, 0 or 1, of a prefix whose Len is below api.Bits.
+func Half(p api.Prefix, side int) api.Prefix {
+	return api.Prefix{Addr: p.Addr + side*size(p.Len+1), Len: p.Len + 1}
+}
+
 // Compare is below 0 if a is ordered ahead of b, above 0 if behind it.
 func Compare(a, b api.Prefix) int {
 	return cmp.Or(cmp.Compare(a.Addr, b.Addr), cmp.Compare(a.Len, b.Len))

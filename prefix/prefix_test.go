@@ -84,6 +84,31 @@ func TestCovering(t *testing.T) {
 	}
 }
 
+func TestBehind(t *testing.T) {
+	for _, p := range all() {
+		last := prefix.Behind(p) - 1
+		if prefix.Covering(last, p.Len) != p || prefix.IsAddress(last+1) && prefix.Covering(last+1, p.Len) == p {
+			t.Fatalf("Behind(%+v) = %d", p, last+1)
+		}
+	}
+}
+
+func TestSideAndHalf(t *testing.T) {
+	for _, p := range all() {
+		if p.Len == api.Bits {
+			continue
+		}
+		for addr := p.Addr; addr < prefix.Behind(p); addr++ {
+			if half := prefix.Half(p, prefix.Side(addr, p.Len)); half != prefix.Covering(addr, p.Len+1) {
+				t.Fatalf("%d is in half %+v of %+v", addr, half, p)
+			}
+		}
+		if prefix.Half(p, 0) == prefix.Half(p, 1) {
+			t.Fatalf("the halves of %+v are one", p)
+		}
+	}
+}
+
 func TestOf(t *testing.T) {
 	if p := prefix.Of(api.Route{Addr: 128, Len: 3, Next: 9}); p != (api.Prefix{Addr: 128, Len: 3}) {
 		t.Errorf("Of = %+v", p)
