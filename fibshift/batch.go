@@ -16,7 +16,7 @@ type batch struct {
 
 // change makes one change, if it can be.
 func (b *batch) change(c api.Change) api.Errno {
-	p := api.Prefix{Addr: c.Addr, Len: c.Len}
+	p := prefixOf(c)
 	if !prefix.Valid(p) {
 		return api.ErrPrefix
 	}
@@ -37,3 +37,5 @@ func (b *batch) takeBack() {
 		undo()
 	}
 }
+
+func prefixOf(c api.Change) api.Prefix { return api.Prefix{Addr: c.Addr, Len: c.Len} }

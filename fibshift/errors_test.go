@@ -11,8 +11,22 @@ func TestP1NoNumberMakesACallPanic(t *testing.T) {
 	inEach(t, func(t *testing.T, kind int) { callWithOddNumbers(table(t, kind, 30, rt(0, 0, 1), rt(255, 8, 2))) })
 }
 
+func TestP1NoNumberMakesACallPanicWhileTheTableMoves(t *testing.T) {
+	betweenAny(t, func(t *testing.T, from, to int) {
+		for steps := range 5 {
+			x := moving(t, from, to, 2, 2, six()...)
+			for range steps {
+				x.Step()
+			}
+			callWithOddNumbers(x)
+		}
+	})
+}
+
 func callWithOddNumbers(x *fibshift.Table) {
 	for _, a := range odd() {
+		x.Move(a)
+		x.Step()
 		x.Lookup(a)
 		x.SetBudget(a)
 		for _, b := range odd() {
@@ -29,6 +43,8 @@ func callWithOddNumbers(x *fibshift.Table) {
 	}
 	x.Cells()
 	x.Advise()
+	x.State()
+	x.Abort()
 }
 
 func TestP1NoListMakesACallPanic(t *testing.T) {

@@ -9,8 +9,14 @@ import (
 
 // Table of routes.
 type Table struct {
-	routes engine.Engine
-	budget int
+	routes   engine.Engine
+	budget   int
+	chunk    int
+	logLimit int
+	// move is nil if the table does not move.
+	move  *move
+	moves int
+	backs int
 }
 
 // New makes a table (P3).
@@ -18,7 +24,7 @@ func New(c api.Config) (*Table, api.Errno) {
 	if !isConfig(c) {
 		return nil, api.ErrConfig
 	}
-	return &Table{routes: engine.New(c.Engine), budget: c.Budget}, api.OK
+	return &Table{routes: engine.New(c.Engine), budget: c.Budget, chunk: c.Chunk, logLimit: c.Log}, api.OK
 }
 
 // Add lays a route (P5).
@@ -41,7 +47,7 @@ func (t *Table) Apply(l []api.Change) (int, api.Errno) {
 	if len(l) > api.MaxBatch {
 		return 0, api.ErrMany
 	}
-	before := t.routes.Cells()
+	before := t.Cells()
 	made := batch{routes: t.routes}
 	for i, c := range l {
 		if e := made.change(c); e != api.OK {
@@ -49,10 +55,12 @@ func (t *Table) Apply(l []api.Change) (int, api.Errno) {
 			return i, e
 		}
 	}
-	if t.isOver(before, t.routes.Cells()) {
+	// Copy and log are not asked for: they give way to the routes.
+	if t.isOver(before.Active, t.routes.Cells()) {
 		made.takeBack()
 		return len(l), api.ErrRoom
 	}
+	t.follow(l, inUse(before))
 	return len(l), api.OK
 }
 
@@ -109,7 +117,12 @@ func (t *Table) SetBudget(n int) api.Errno {
 
 // Cells tells the cells in use (P8).
 func (t *Table) Cells() api.Cells {
-	return api.Cells{Active: t.routes.Cells(), Budget: t.budget}
+	c := api.Cells{Active: t.routes.Cells(), Budget: t.budget}
+	if t.move != nil {
+		c.Target = t.move.copy.Cells()
+		c.Logged = t.move.log.size()
+	}
+	return c
 }
 
 // Advise tells an engine (P9).
@@ -131,16 +144,55 @@ func (t *Table) Advise() int {
 }
 
 // Move begins a move (P10).
-func (t *Table) Move(kind int) api.Errno { return api.OK }
+func (t *Table) Move(kind int) api.Errno {
+	empty := engine.New(kind)
+	if empty == nil {
+		return api.ErrKind
+	}
+	if t.move != nil {
+		return api.ErrBusy
+	}
+	if kind == engine.Kind(t.routes) {
+		return api.ErrSame
+	}
+	active := t.routes.Cells()
+	if t.isOver(active, active+empty.Cells()) {
+		return api.ErrRoom
+	}
+	t.move = newMove(empty)
+	return api.OK
+}
 
 // Step makes a piece of a move (P11).
-func (t *Table) Step() int { return 0 }
+func (t *Table) Step() int {
+	switch {
+	case t.move == nil:
+		return api.Idle
+	case t.move.phase == api.Copying:
+		return t.copyChunk()
+	}
+	return t.catchChunk()
+}
 
 // Abort rolls back (P13).
-func (t *Table) Abort() api.Errno { return api.OK }
+func (t *Table) Abort() api.Errno {
+	if t.move == nil {
+		return api.ErrIdle
+	}
+	t.rollBack()
+	return api.OK
+}
 
 // State tells how it stands (P14).
-func (t *Table) State() api.State { return api.State{Engine: engine.Kind(t.routes)} }
+func (t *Table) State() api.State {
+	s := api.State{Engine: engine.Kind(t.routes), Moves: t.moves, Backs: t.backs}
+	if t.move != nil {
+		s.Target = engine.Kind(t.move.copy)
+		s.Phase = t.move.phase
+		s.Copied = t.move.copied
+	}
+	return s
+}
 
 // What Advise holds the routes against.
 const (

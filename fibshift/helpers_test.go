@@ -34,16 +34,51 @@ func inEach(t *testing.T, test func(t *testing.T, kind int)) {
 	}
 }
 
+// betweenAny tests with a move from each of the engines to each other one.
+func betweenAny(t *testing.T, test func(t *testing.T, from, to int)) {
+	inEach(t, func(t *testing.T, from int) {
+		inEach(t, func(t *testing.T, to int) {
+			if to != from {
+				test(t, from, to)
+			}
+		})
+	})
+}
+
 // table makes a table with an engine, a budget, and these routes.
 func table(t *testing.T, kind, budget int, routes ...api.Route) *fibshift.Table {
 	t.Helper()
-	x, e := fibshift.New(api.Config{Engine: kind, Budget: budget, Chunk: 2, Log: 4})
+	return tableOf(t, api.Config{Engine: kind, Budget: budget, Chunk: 2, Log: 4}, routes...)
+}
+
+func tableOf(t *testing.T, c api.Config, routes ...api.Route) *fibshift.Table {
+	t.Helper()
+	x, e := fibshift.New(c)
 	if x == nil || e != api.OK {
 		t.Fatalf("New = %v, %d", x, e)
 	}
 	for _, r := range routes {
 		wantErr(t, "Add", x.Add(prefixOf(r), r.Next), api.OK)
 	}
+	return x
+}
+
+// moving makes a table that has just begun to move, with the greatest budget.
+func moving(t *testing.T, from, to, chunk, log int, routes ...api.Route) *fibshift.Table {
+	t.Helper()
+	x := tableOf(t, api.Config{Engine: from, Budget: api.MaxBudget, Chunk: chunk, Log: log}, routes...)
+	wantErr(t, "Move", x.Move(to), api.OK)
+	return x
+}
+
+// catching makes a table that has copied all its routes, and is Catching.
+func catching(t *testing.T, from, to, chunk, log int, routes ...api.Route) *fibshift.Table {
+	t.Helper()
+	x := moving(t, from, to, chunk, log, routes...)
+	for range len(routes)/chunk + 1 {
+		wantSteps(t, x, api.Copied)
+	}
+	wantState(t, x, api.State{Engine: from, Target: to, Phase: api.Catching, Copied: len(routes)})
 	return x
 }
 
@@ -148,4 +183,35 @@ func wantBest(t *testing.T, x *fibshift.Table, addr int, want api.Route, e api.E
 	if gotR, gotE := x.Lookup(addr); gotR != want || gotE != e {
 		t.Errorf("Lookup(%d) = %+v, %d, want %+v, %d", addr, gotR, gotE, want, e)
 	}
+}
+
+// wantUse asks for the cells in use, whatever the budget is.
+func wantUse(t *testing.T, x *fibshift.Table, active, target, logged int) {
+	t.Helper()
+	got := x.Cells()
+	if want := (api.Cells{Active: active, Target: target, Logged: logged, Budget: got.Budget}); got != want {
+		t.Errorf("Cells = %+v, want %+v", got, want)
+	}
+}
+
+func wantState(t *testing.T, x *fibshift.Table, want api.State) {
+	t.Helper()
+	if got := x.State(); got != want {
+		t.Errorf("State = %+v, want %+v", got, want)
+	}
+}
+
+// wantSteps makes as many Steps as it has answers.
+func wantSteps(t *testing.T, x *fibshift.Table, want ...int) {
+	t.Helper()
+	for i, n := range want {
+		if got := x.Step(); got != n {
+			t.Errorf("Step %d of %d = %d, want %d", i+1, len(want), got, n)
+		}
+	}
+}
+
+func wantBudget(t *testing.T, x *fibshift.Table, n int) {
+	t.Helper()
+	wantErr(t, "SetBudget", x.SetBudget(n), api.OK)
 }

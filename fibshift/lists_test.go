@@ -70,6 +70,58 @@ func TestP2AListHandedInIsNeitherWrittenIntoNorKept(t *testing.T) {
 	}
 }
 
+func TestP2AListHandedInWhileTheTableMovesIsNeitherWrittenIntoNorKept(t *testing.T) {
+	betweenAny(t, func(t *testing.T, from, to int) {
+		x := catching(t, from, to, 2, 4, rt(0, 0, 1), rt(128, 1, 2))
+		list := []api.Change{lay(0, 0, 5), lay(64, 2, 6), take(128, 1), lay(-7, -8, -9)}
+		was := slices.Clone(list)
+		wantApply(t, x, 3, api.OK, list[:3]...)
+		if !slices.Equal(list, was) {
+			t.Errorf("the list and what stands behind it: %+v, was %+v", list, was)
+		}
+		for i := range list {
+			list[i] = lay(3, 8, 3)
+		}
+		wantSteps(t, x, api.Caught, api.Cut)
+		wantRoutes(t, x, rt(0, 0, 5), rt(64, 2, 6))
+		wantUse(t, x, need(to, rt(0, 0, 5), rt(64, 2, 6)), 0, 0)
+	})
+}
+
+func TestP2TablesThatMoveHaveNothingInCommon(t *testing.T) {
+	betweenAny(t, func(t *testing.T, from, to int) {
+		x := moving(t, from, to, 2, 4, six()...)
+		y := moving(t, from, to, 2, 4, six()...)
+		wantSteps(t, x, api.Copied)
+		was := lookOf(t, x)
+		wantSteps(t, y, api.Copied, api.Copied)
+		wantErr(t, "Add", y.Add(px(0, 0), 9), api.OK)
+		wantLook(t, x, was)
+		wantSteps(t, y, api.Copied, api.Copied, api.Cut)
+		wantLook(t, x, was)
+		wantErr(t, "Move", y.Move(from), api.OK)
+		wantErr(t, "Abort", y.Abort(), api.OK)
+		wantLook(t, x, was)
+		wantSteps(t, x, api.Copied, api.Copied, api.Copied, api.Cut)
+		wantRoutes(t, x, six()...)
+	})
+}
+
+func TestP2AskingChangesNothingWhileTheTableMoves(t *testing.T) {
+	betweenAny(t, func(t *testing.T, from, to int) {
+		for _, steps := range []int{0, 1, 4} {
+			x := moving(t, from, to, 2, 4, six()...)
+			for range steps {
+				wantSteps(t, x, api.Copied)
+			}
+			wantErr(t, "Add", x.Add(px(0, 0), 9), api.OK)
+			was := lookOf(t, x)
+			wantLook(t, x, was)
+			wantLook(t, x, was)
+		}
+	})
+}
+
 func TestP2AListThatComesOutIsTheCallers(t *testing.T) {
 	in := []api.Route{rt(0, 0, 1), rt(0, 8, 2), rt(128, 1, 3)}
 	inEach(t, func(t *testing.T, kind int) { scrawlIntoPages(t, table(t, kind, 20, in...), in) })
